@@ -576,7 +576,7 @@ func TestAllFieldsAreAnsweredAsTheyCame(t *testing.T) {
 	}
 }
 
-// All rows of up to six calls of a menu, and of up to ten of a lesser one.
+// All rows of up to six calls of two menus, and of up to eight of a lesser one.
 func TestAllRowsOfAMenu(t *testing.T) {
 	for _, x := range []struct {
 		members set.Set
